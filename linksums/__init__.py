@@ -1,0 +1,1 @@
+"""Linksums: running totals kept by two tables of links."""

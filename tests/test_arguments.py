@@ -1,0 +1,443 @@
+"""What all functions share: how they are called, what they check, and that they change nothing [2], [3]."""
+
+import copy
+import unittest
+
+from linksums import links, signs
+from linksums.errors import InvalidNumber, InvalidPair, InvalidValues, UnequalPairs, UnknownPlace
+from tests import samples
+
+PAIR = ([0, 1, 0], [2, 3, 4])
+OTHER = ([0, 1, 2], [4, 4, 4])
+DOWN, UP = PAIR
+ROW = [5, -6, 7]
+
+# Each function with the names of its parameters and right arguments for them.
+CALLS = [
+    (links.walk_down, {"down": DOWN, "place": 2}),
+    (links.walk_up, {"up": UP, "place": 1}),
+    (links.count, {"pair": PAIR, "first": 2, "second": 1}),
+    (links.counts, {"pair": PAIR}),
+    (links.cells_of, {"up": UP, "values": ROW}),
+    (links.values_of, {"up": UP, "cells": ROW}),
+    (links.total, {"down": DOWN, "cells": ROW, "place": 2}),
+    (signs.signed_sums, {"pair": PAIR}),
+    (signs.are_alike, {"pair": PAIR, "other": OTHER}),
+    (signs.parting, {"pair": PAIR, "other": OTHER}),
+    (signs.alike_pairs, {"pair": PAIR}),
+]
+
+# No whole numbers, and whole numbers that are no places of three.
+NO_NUMBERS = [True, False, None, "1", "", b"1", 1.0, [1], (1,), {1: 1}, {1}, object()]
+NO_PLACES = NO_NUMBERS + [0, 4, -1, 17, samples.TWENTY, -samples.TWENTY]
+
+
+class NoWholeThing:
+    """A thing that fails when it is compared, so it must not be taken for a number."""
+
+    def __eq__(self, other):
+        raise RuntimeError("compared")
+
+    __lt__ = __le__ = __gt__ = __ge__ = __eq__
+    __hash__ = None
+
+
+def two(places):
+    """A down table and an up table, without links that are wrong, for so many places."""
+    return [0] * places, [places + 1] * places
+
+
+def no_two_tables():
+    """Things that are no tuple of two lists of equally many things, 1 to 16."""
+    down, up = two(3)
+    seventeen = two(17)
+    return [
+        None, True, 0, 3, "", "ab", b"ab", {}, {0: down, 1: up}, {1, 2}, object(), NoWholeThing(),
+        (), (down,), (down, up, up), (down, up, None), [down, up], [], down,
+        (tuple(down), up), (down, tuple(up)), (tuple(down), tuple(up)), (down, None), (None, up), (None, None),
+        (down, "abc"), ("abc", up), (down, {1: 4, 2: 4, 3: 4}), (down, 3), (3, up), (down, range(3)),
+        ([], []), (down, []), ([], up), (down, up[:2]), (down[:2], up), (down, up + [4]), (down + [0], up),
+        seventeen, (seventeen[0], two(16)[1]), (two(16)[0], seventeen[1]), two(100),
+        # The links are wrong, too, but this comes first.
+        ([None] * 17, [None] * 17), ([9], [9, 9]), [[9], [9]], ((9,), (9,)),
+    ]
+
+
+def no_tables():
+    """Things that are no list of 1 to 16 things."""
+    return [None, True, 0, 3, "", "abc", b"abc", {}, {0: 0}, {0}, (0, 0, 0), (), range(3), object(), NoWholeThing(),
+            [], [0] * 17, [18] * 17, [None] * 17, [0] * 100, PAIR]
+
+
+def wrong_downs():
+    """Down tables with wrong links, and the first wrong place of each."""
+    rows = [([0, 1, 2, link], 4) for link in [4, 5, 6, -1, samples.TWENTY, -samples.TWENTY] + NO_NUMBERS]
+    rows += [([link, 0, 0], 1) for link in [1, 2, -1] + NO_NUMBERS]
+    rows += [([0, link, 0], 2) for link in [2, 3, 4, -1, NoWholeThing()] + NO_NUMBERS]
+    rows += [([0, 2, 3, 4], 2), ([0, 0, None, True], 3), ([1, True, None], 1), ([False], 1), ([1], 1), ([None], 1)]
+    rows += [([0] * 15 + [16], 16), ([0] * 15 + [-1], 16), ([0] * 9 + [10] * 7, 10)]
+    return rows
+
+
+def wrong_ups():
+    """Up tables with wrong links, and the first wrong place of each."""
+    rows = [([2, 3, 4, link], 4) for link in [0, 1, 4, 6, -5, samples.TWENTY, -samples.TWENTY] + NO_NUMBERS]
+    rows += [([link, 4, 4], 1) for link in [0, 1, 5, -1] + NO_NUMBERS]
+    rows += [([2, link, 4], 2) for link in [0, 1, 2, 5, -3, NoWholeThing()] + NO_NUMBERS]
+    rows += [([5, 2, 3, 4], 2), ([4, 4, None, True], 3), ([5, True, None], 1), ([True], 1), ([1], 1), ([3], 1)]
+    rows += [([17] * 15 + [16], 16), ([17] * 15 + [18], 16), ([17] * 9 + [10] * 7, 10)]
+    return rows
+
+
+class Calling(unittest.TestCase):
+    def test_by_position_and_by_name(self):
+        for function, named in CALLS:
+            with self.subTest(function.__name__):
+                found = function(*named.values())
+                self.assertEqual(function(**named), found)
+                self.assertEqual(function(**dict(reversed(list(named.items())))), found)
+                first = list(named)[0]
+                rest = {name: named[name] for name in named if name != first}
+                self.assertEqual(function(named[first], **rest), found)
+
+    def test_again_with_equal_arguments(self):
+        for function, named in CALLS:
+            with self.subTest(function.__name__):
+                found = function(**named)
+                for _ in range(3):
+                    self.assertEqual(function(**copy.deepcopy(named)), found)
+
+    def test_arguments_stay_as_they_were(self):
+        for function, named in CALLS:
+            with self.subTest(function.__name__):
+                kept = copy.deepcopy(named)
+                parts = [id(part) for part in samples.lists_in(list(named.values()))[1:]]
+                function(**named)
+                self.assertEqual(named, kept)
+                self.assertEqual([id(part) for part in samples.lists_in(list(named.values()))[1:]], parts)
+
+    def test_arguments_stay_as_they_were_for_all_pairs(self):
+        for pair in samples.some_pairs():
+            kept = copy.deepcopy(pair)
+            places = len(pair[0])
+            row = list(range(places))
+            links.counts(pair)
+            links.count(pair, places, 1)
+            links.walk_down(pair[0], places)
+            links.walk_up(pair[1], 1)
+            links.total(pair[0], row, places)
+            links.cells_of(pair[1], row)
+            links.values_of(pair[1], row)
+            signs.signed_sums(pair)
+            signs.are_alike(pair, samples.plain(places))
+            signs.parting(pair, samples.plain(places))
+            with self.subTest(pair=kept):
+                self.assertEqual(pair, kept)
+                self.assertEqual(row, list(range(places)))
+
+    def test_arguments_stay_as_they_were_where_an_error_is_raised(self):
+        for function, named in CALLS:
+            for name in named:
+                wrong = copy.deepcopy(dict(named, **{name: ([0, 2], [2, 3])}))
+                kept = copy.deepcopy(wrong)
+                with self.subTest(function.__name__, name=name):
+                    with self.assertRaises((ValueError, LookupError)):
+                        function(**wrong)
+                    self.assertEqual(wrong, kept)
+
+
+class NewLists(unittest.TestCase):
+    def test_what_is_returned_is_new(self):
+        for function, named in CALLS:
+            with self.subTest(function.__name__):
+                named = copy.deepcopy(named)
+                kept = copy.deepcopy(named)
+                found = function(**named)
+                wanted = copy.deepcopy(found)
+                for part in samples.lists_in(found):
+                    part.append(99)
+                    part[0] = "changed"
+                self.assertEqual(named, kept)
+                self.assertEqual(function(**named), wanted)
+
+    def test_later_changes_to_arguments_have_no_effect(self):
+        for function, named in CALLS:
+            with self.subTest(function.__name__):
+                named = copy.deepcopy(named)
+                found = function(**named)
+                wanted = copy.deepcopy(found)
+                for part in samples.lists_in(list(named.values())):
+                    part[0] = "changed"
+                    part.append(99)
+                self.assertEqual(found, wanted)
+
+    def test_no_list_stands_twice(self):
+        for places in (1, 2, 3, 4):
+            for pair in samples.all_pairs(places)[::7] + [samples.plain(places), samples.totals(places)]:
+                for found in (links.counts(pair), signs.alike_pairs(pair)):
+                    with self.subTest(pair=pair, found=found):
+                        self.check_apart(found, pair)
+
+    def test_no_list_stands_twice_in_the_counts_of_sixteen_places(self):
+        pair = samples.plain(16)
+        self.check_apart(links.counts(pair), pair)
+
+    def test_lists_that_equal_an_argument_are_new(self):
+        values = [1, 2, 3]
+        self.assertIsNot(links.cells_of([4, 4, 4], values), values)
+        self.assertIsNot(links.values_of([4, 4, 4], values), values)
+        self.assertEqual(links.cells_of([4, 4, 4], values), values)
+        self.assertEqual(links.values_of([4, 4, 4], values), values)
+
+    def check_apart(self, found, pair):
+        parts = samples.lists_in(found)
+        self.assertEqual(len({id(part) for part in parts}), len(parts))
+        for part in parts:
+            self.assertIsNot(part, pair[0])
+            self.assertIsNot(part, pair[1])
+
+
+class Raising(unittest.TestCase):
+    """Helps the tests of errors: they look at the class itself, and at each field."""
+
+    def raised(self, kind, function, *arguments):
+        with self.assertRaises(kind) as caught:
+            function(*arguments)
+        self.assertIs(type(caught.exception), kind)
+        return caught.exception
+
+    def check_pair_error(self, table, place, function, *arguments):
+        error = self.raised(InvalidPair, function, *arguments)
+        self.assertEqual((error.table, error.place), (table, place))
+        self.assertIsNot(type(error.place), bool)
+
+
+def pair_calls(pair):
+    """All calls to which a pair is passed, with other arguments that are right."""
+    return [
+        (links.count, pair, 1, 1), (links.counts, pair), (signs.signed_sums, pair), (signs.alike_pairs, pair),
+        (signs.are_alike, pair, ([0], [2])), (signs.are_alike, ([0], [2]), pair),
+        (signs.parting, pair, ([0], [2])), (signs.parting, ([0], [2]), pair),
+    ]
+
+
+class WrongPairs(Raising):
+    def test_no_two_tables(self):
+        for thing in no_two_tables():
+            for call in pair_calls(thing):
+                with self.subTest(call=call[0].__name__, thing=type(thing)):
+                    self.check_pair_error(None, None, *call)
+
+    def test_wrong_down_links(self):
+        for down, place in wrong_downs():
+            up = two(len(down))[1]
+            for call in pair_calls((down, up)):
+                with self.subTest(call=call[0].__name__, place=place):
+                    self.check_pair_error("down", place, *call)
+
+    def test_wrong_up_links(self):
+        for up, place in wrong_ups():
+            down = two(len(up))[0]
+            for call in pair_calls((down, up)):
+                with self.subTest(call=call[0].__name__, place=place):
+                    self.check_pair_error("up", place, *call)
+
+    def test_down_links_come_first(self):
+        for call in pair_calls(([0, 0, 3], [1, 9, None])):
+            with self.subTest(call=call[0].__name__):
+                self.check_pair_error("down", 3, *call)
+
+    def test_the_tables_the_wrong_way_round(self):
+        for call in pair_calls((UP, DOWN)):
+            with self.subTest(call=call[0].__name__):
+                self.check_pair_error("down", 1, *call)
+
+    def test_sixteen_places_are_right(self):
+        for pair in (samples.plain(16), samples.totals(16), two(16)):
+            self.assertEqual(links.count(pair, 16, 16), 1)
+            self.assertEqual(len(links.counts(pair)), 16)
+            self.assertIsNone(signs.parting(pair, pair))
+            self.assertIs(signs.are_alike(pair, pair), True)
+            self.assertEqual(signs.signed_sums(pair), signs.signed_sums(copy.deepcopy(pair)))
+
+
+class WrongTables(Raising):
+    def test_no_tables(self):
+        for thing in no_tables():
+            with self.subTest(thing=type(thing)):
+                self.check_pair_error("down", None, links.walk_down, thing, 1)
+                self.check_pair_error("down", None, links.total, thing, [1], 1)
+                self.check_pair_error("up", None, links.walk_up, thing, 1)
+                self.check_pair_error("up", None, links.cells_of, thing, [1])
+                self.check_pair_error("up", None, links.values_of, thing, [1])
+
+    def test_wrong_down_links(self):
+        for down, place in wrong_downs():
+            with self.subTest(place=place):
+                self.check_pair_error("down", place, links.walk_down, down, 1)
+                self.check_pair_error("down", place, links.total, down, [1] * len(down), 1)
+
+    def test_wrong_up_links(self):
+        for up, place in wrong_ups():
+            with self.subTest(place=place):
+                self.check_pair_error("up", place, links.walk_up, up, 1)
+                self.check_pair_error("up", place, links.cells_of, up, [1] * len(up))
+                self.check_pair_error("up", place, links.values_of, up, [1] * len(up))
+
+    def test_sixteen_places_are_right(self):
+        down, up = two(16)
+        self.assertEqual(links.walk_down(down, 16), [16])
+        self.assertEqual(links.walk_up(up, 16), [16])
+        self.assertEqual(links.total(down, [2] * 16, 16), 2)
+        self.assertEqual(links.cells_of(up, [2] * 16), [2] * 16)
+        self.assertEqual(links.values_of(up, [2] * 16), [2] * 16)
+
+
+class WrongPlaces(Raising):
+    def check_place_error(self, place, function, *arguments):
+        self.assertIs(self.raised(UnknownPlace, function, *arguments).place, place)
+
+    def test_no_places(self):
+        for thing in NO_PLACES + [NoWholeThing(), DOWN, PAIR, samples]:
+            with self.subTest(thing=type(thing)):
+                self.check_place_error(thing, links.walk_down, DOWN, thing)
+                self.check_place_error(thing, links.walk_up, UP, thing)
+                self.check_place_error(thing, links.total, DOWN, ROW, thing)
+                self.check_place_error(thing, links.count, PAIR, thing, 1)
+                self.check_place_error(thing, links.count, PAIR, 1, thing)
+
+    def test_of_one_place_and_of_sixteen(self):
+        for places in (1, 16):
+            down, up = two(places)
+            for thing in (0, places + 1):
+                with self.subTest(places=places, thing=thing):
+                    self.check_place_error(thing, links.walk_down, down, thing)
+                    self.check_place_error(thing, links.walk_up, up, thing)
+                    self.check_place_error(thing, links.total, down, [1] * places, thing)
+                    self.check_place_error(thing, links.count, (down, up), thing, 1)
+                    self.check_place_error(thing, links.count, (down, up), 1, thing)
+
+    def test_the_first_place_comes_first(self):
+        for first in (4, None, "b"):
+            for second in (0, False, "a"):
+                with self.subTest(first=first, second=second):
+                    self.check_place_error(first, links.count, PAIR, first, second)
+
+
+class WrongValues(Raising):
+    CALLED = [
+        lambda row: links.cells_of([2, 3, 4], row),
+        lambda row: links.values_of([2, 3, 4], row),
+        lambda row: links.total([0, 1, 2], row, 1),
+    ]
+
+    def check_values_error(self, place, row):
+        for function in self.CALLED:
+            error = self.raised(InvalidValues, function, row)
+            self.assertEqual(error.place, place)
+            self.assertIsNot(type(error.place), bool)
+
+    def test_no_list_of_so_many(self):
+        for thing in [None, True, 3, "abc", b"abc", (1, 2, 3), {1: 1, 2: 2, 3: 3}, {1, 2, 3}, range(3), object(),
+                      NoWholeThing(), [], [1], [1, 2], [1, 2, 3, 4], [None] * 2, [None] * 4, [1] * 17]:
+            with self.subTest(thing=type(thing)):
+                self.check_values_error(None, thing)
+
+    def test_no_numbers(self):
+        for thing in NO_NUMBERS + [NoWholeThing()]:
+            with self.subTest(thing=type(thing)):
+                self.check_values_error(1, [thing, 2, 3])
+                self.check_values_error(2, [1, thing, 3])
+                self.check_values_error(3, [1, 2, thing])
+                self.check_values_error(2, [1, thing, None])
+                self.check_values_error(1, [thing] * 3)
+
+    def test_sixteen_places(self):
+        down, up = two(16)
+        for function, table in ((links.cells_of, up), (links.values_of, up)):
+            self.assertIsNone(self.raised(InvalidValues, function, table, [1] * 15).place)
+            self.assertIsNone(self.raised(InvalidValues, function, table, [1] * 17).place)
+            self.assertEqual(self.raised(InvalidValues, function, table, [1] * 15 + [True]).place, 16)
+        self.assertEqual(self.raised(InvalidValues, links.total, down, [1] * 15 + ["1"], 1).place, 16)
+
+    def test_any_whole_numbers_are_right(self):
+        row = [-samples.TWENTY, 0, samples.TWENTY]
+        self.assertEqual(links.cells_of([4, 4, 4], row), row)
+        self.assertEqual(links.values_of([4, 4, 4], row), row)
+        self.assertEqual(links.total([0, 0, 0], row, 3), samples.TWENTY)
+
+
+class UnequalNumbers(Raising):
+    def test_both_numbers_are_told(self):
+        for function in (signs.are_alike, signs.parting):
+            for ours in (1, 2, 3, 15, 16):
+                for theirs in (1, 2, 4, 16):
+                    if ours != theirs:
+                        with self.subTest(function.__name__, ours=ours, theirs=theirs):
+                            error = self.raised(UnequalPairs, function, two(ours), two(theirs))
+                            self.assertEqual((error.first, error.second), (ours, theirs))
+
+    def test_both_pairs_are_checked_before(self):
+        for function in (signs.are_alike, signs.parting):
+            with self.subTest(function.__name__):
+                self.check_pair_error("down", 2, function, ([0, 2], [2, 3]), ([0], [2]))
+                self.check_pair_error("up", 1, function, ([0, 0], [2, 3]), ([0], [1]))
+                self.check_pair_error(None, None, function, ([0, 0], [2, 3]), ([0], [2, 3]))
+
+
+class TooManyPlaces(Raising):
+    def test_more_than_four(self):
+        for places in range(5, 17):
+            for pair in (two(places), samples.plain(places)):
+                with self.subTest(places=places):
+                    error = self.raised(InvalidNumber, signs.alike_pairs, pair)
+                    self.assertEqual(error.number, places)
+                    self.assertIs(type(error.number), int)
+
+    def test_the_pair_is_checked_before(self):
+        down, up = two(5)
+        self.check_pair_error("down", 5, signs.alike_pairs, (down[:4] + [5], up))
+        self.check_pair_error("up", 5, signs.alike_pairs, (down, up[:4] + [5]))
+        self.check_pair_error(None, None, signs.alike_pairs, two(17))
+
+
+class TheFirstArgumentComesFirst(Raising):
+    def test_tables_before_places(self):
+        self.check_pair_error("down", 1, links.walk_down, [1], 9)
+        self.check_pair_error("down", None, links.walk_down, None, None)
+        self.check_pair_error("up", 1, links.walk_up, [1], 9)
+        self.check_pair_error("up", None, links.walk_up, [], 1)
+
+    def test_tables_before_values(self):
+        self.check_pair_error("up", 2, links.cells_of, [2, 2], [1])
+        self.check_pair_error("up", 2, links.values_of, [2, 2], [None, None])
+        self.check_pair_error("down", 2, links.total, [0, 2], [None], 9)
+
+    def test_values_before_places(self):
+        self.assertIsNone(self.raised(InvalidValues, links.total, [0, 0], [1], 9).place)
+        self.assertEqual(self.raised(InvalidValues, links.total, [0, 0], [1, None], None).place, 2)
+
+    def test_pairs_before_places(self):
+        self.check_pair_error(None, None, links.count, None, 9, 9)
+        self.check_pair_error("up", 2, links.count, ([0, 0], [2, 2]), None, None)
+
+    def test_the_pair_before_the_other(self):
+        for function in (signs.are_alike, signs.parting):
+            with self.subTest(function.__name__):
+                self.check_pair_error("down", 2, function, ([0, 2], [2, 3]), ([1, 0], [2, 3]))
+                self.check_pair_error("up", 2, function, ([0, 0], [2, 2]), None)
+                self.check_pair_error(None, None, function, None, ([1, 0], [2, 3]))
+
+    def test_by_name_in_another_order(self):
+        with self.assertRaises(InvalidPair):
+            links.total(place=9, cells=[None], down=[1])
+        with self.assertRaises(InvalidPair) as caught:
+            signs.parting(other=None, pair=([0], [1]))
+        self.assertEqual((caught.exception.table, caught.exception.place), ("up", 1))
+        with self.assertRaises(UnknownPlace) as unknown:
+            links.count(second=0, first=4, pair=PAIR)
+        self.assertEqual(unknown.exception.place, 4)
+
+
+if __name__ == "__main__":
+    unittest.main()
