@@ -1,6 +1,6 @@
 """The checks of arguments; each one raises the error that the interface states."""
 
-from linksums.errors import InvalidPair, InvalidValues, UnequalPairs, UnknownPlace
+from linksums.errors import InvalidNumber, InvalidPair, InvalidValues, UnequalPairs, UnknownPlace
 
 MOST_PLACES = 16
 
@@ -56,6 +56,18 @@ def check_values(values, places):
     for place, value in enumerate(values, 1):
         if not is_whole(value):
             raise InvalidValues(place)
+
+
+def check_number(number):
+    """Check a whole number."""
+    if not is_whole(number):
+        raise InvalidNumber(number)
+
+
+def check_number_of_places(places):
+    """Check a number of places."""
+    if not is_whole(places) or not 1 <= places <= MOST_PLACES:
+        raise InvalidNumber(places)
 
 
 def _is_table(thing):

@@ -124,21 +124,120 @@ def defined_parting(pair, other):
     return (i, j)
 
 
-def moves_from(pair):
-    """All pairs to which a move [17] leads, forward or back."""
+def first_wrong(pair):
+    """The nearest places whose count should be 1 and is not, of these those with the least second place."""
+    return defined_parting(pair, plain(len(pair[0])))
+
+
+def defined_cover(pair, i, j):
+    """The cover [19] of the stretch from j to i, 0 where j is greater than i."""
+    down, up = pair
+    return sum(1 for k in range(j, i + 1) if down[k - 1] < j and up[k - 1] > i)
+
+
+def defined_covers(pair):
+    places = range(1, len(pair[0]) + 1)
+    return [[defined_cover(pair, i, j) for j in places] for i in places]
+
+
+def told_totals(pair, values):
+    """The totals that a pair tells when each value has been added at its place."""
+    rows = defined_counts(pair)
+    return [sum(often * value for often, value in zip(row, values)) for row in rows]
+
+
+def up_to(values):
+    """The sums of the values up to each place."""
+    return list(itertools.accumulate(values))
+
+
+def forward_from(pair):
+    """All forward moves [17] of a pair, ascending, each with the pair after it."""
     down, up = pair
     found = []
     for x, y in itertools.combinations(range(1, len(down) + 1), 2):
-        new = copy.deepcopy(pair)
         if up[x - 1] == y and down[x - 1] == down[y - 1]:
+            new = copy.deepcopy(pair)
             new[1][x - 1] = up[y - 1]
             new[0][y - 1] = x
-            found.append(new)
+            found.append(((x, y), new))
+    return found
+
+
+def back_from(pair):
+    """All back moves [17] of a pair, ascending, each with the pair after it."""
+    down, up = pair
+    found = []
+    for x, y in itertools.combinations(range(1, len(down) + 1), 2):
         if up[x - 1] == up[y - 1] and down[y - 1] == x:
+            new = copy.deepcopy(pair)
             new[1][x - 1] = y
             new[0][y - 1] = down[x - 1]
-            found.append(new)
+            found.append(((x, y), new))
     return found
+
+
+def moves_from(pair):
+    """All pairs to which a move leads, forward or back."""
+    return [new for _, new in forward_from(pair) + back_from(pair)]
+
+
+def all_trees(least, most):
+    """All trees [10] of the places from the least to the most."""
+    if least > most:
+        return [None]
+    return [
+        (left, root, right)
+        for root in range(least, most + 1)
+        for left in all_trees(least, root - 1)
+        for right in all_trees(root + 1, most)
+    ]
+
+
+def some_tree(least, most, some):
+    """One of these trees, chosen by the given source of numbers."""
+    if least > most:
+        return None
+    root = some.randint(least, most)
+    return (some_tree(least, root - 1, some), root, some_tree(root + 1, most, some))
+
+
+def subtrees(tree, least, most, ahead=()):
+    """For each place of a tree its subtree's first and last place, and its ancestors, itself included."""
+    if tree is None:
+        return {}
+    left, root, right = tree
+    ancestors = ahead + (root,)
+    found = {root: (least, most, ancestors)}
+    found.update(subtrees(left, least, root - 1, ancestors))
+    found.update(subtrees(right, root + 1, most, ancestors))
+    return found
+
+
+def defined_pair(tree, places):
+    """The right pair of a tree [10]."""
+    spans = subtrees(tree, 1, places)
+    down = [spans[k][0] - 1 for k in range(1, places + 1)]
+    up = [spans[k][1] + 1 for k in range(1, places + 1)]
+    return (down, up)
+
+
+def right_pairs(places):
+    """All right pairs."""
+    return [defined_pair(tree, places) for tree in all_trees(1, places)]
+
+
+def large_trees():
+    """Tuples of a number of places and some tree of so many."""
+    return [(places, some_tree(1, places, random.Random(seed))) for places in (6, 9, 15, 16) for seed in range(6)]
+
+
+def some_right_pairs():
+    """All right pairs for 1 to 5 places, and large ones."""
+    pairs = [pair for places in range(1, 6) for pair in right_pairs(places)]
+    for places in (6, 7, 8, 12, 15, 16):
+        pairs += [plain(places), totals(places), by_powers(places)]
+    return pairs + [defined_pair(tree, places) for places, tree in large_trees()]
 
 
 def lists_in(thing):

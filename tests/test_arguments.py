@@ -3,12 +3,15 @@
 import copy
 import unittest
 
-from linksums import links, signs
-from linksums.errors import InvalidNumber, InvalidPair, InvalidValues, UnequalPairs, UnknownPlace
+from linksums import covers, links, moves, order, signs, trees
+from linksums.errors import (InvalidNumber, InvalidPair, InvalidTree, InvalidValues, NoMove, NotRight, UnequalPairs,
+                             UnknownPlace)
 from tests import samples
 
 PAIR = ([0, 1, 0], [2, 3, 4])
 OTHER = ([0, 1, 2], [4, 4, 4])
+RIGHT = ([0, 0, 2], [2, 4, 4])
+TREE = ((None, 1, None), 2, (None, 3, None))
 DOWN, UP = PAIR
 ROW = [5, -6, 7]
 
@@ -25,6 +28,23 @@ CALLS = [
     (signs.are_alike, {"pair": PAIR, "other": OTHER}),
     (signs.parting, {"pair": PAIR, "other": OTHER}),
     (signs.alike_pairs, {"pair": PAIR}),
+    (covers.covers, {"pair": PAIR}),
+    (covers.right_totals, {"pair": PAIR, "totals": ROW}),
+    (covers.values_by_totals, {"pair": PAIR, "totals": ROW}),
+    (covers.right_changes, {"pair": PAIR, "place": 1, "more": -4}),
+    (trees.is_right, {"pair": PAIR}),
+    (trees.up_for, {"down": RIGHT[0]}),
+    (trees.down_for, {"up": RIGHT[1]}),
+    (trees.tree_of, {"pair": RIGHT}),
+    (trees.pair_of, {"tree": TREE}),
+    (trees.depths, {"pair": RIGHT}),
+    (trees.turned, {"pair": PAIR}),
+    (moves.forward_moves, {"pair": RIGHT}),
+    (moves.back_moves, {"pair": RIGHT}),
+    (moves.moved, {"pair": RIGHT, "move": (1, 2)}),
+    (order.Links, {"pair": RIGHT}),
+    (order.Links.fits, {"pair": RIGHT}),
+    (order.Links.by_powers, {"places": 6}),
 ]
 
 # No whole numbers, and whole numbers that are no places of three.
@@ -131,9 +151,30 @@ class Calling(unittest.TestCase):
             signs.signed_sums(pair)
             signs.are_alike(pair, samples.plain(places))
             signs.parting(pair, samples.plain(places))
+            covers.covers(pair)
+            covers.right_totals(pair, row)
+            covers.values_by_totals(pair, row)
+            covers.right_changes(pair, 1, 3)
+            trees.is_right(pair)
+            trees.up_for(pair[0])
+            trees.down_for(pair[1])
+            trees.turned(pair)
+            for move in moves.forward_moves(pair) + moves.back_moves(pair):
+                moves.moved(pair, move)
+            order.Links.fits(pair)
             with self.subTest(pair=kept):
                 self.assertEqual(pair, kept)
                 self.assertEqual(row, list(range(places)))
+
+    def test_right_pairs_stay_as_they_were(self):
+        for pair in samples.some_right_pairs():
+            kept = copy.deepcopy(pair)
+            trees.tree_of(pair)
+            trees.depths(pair)
+            found = order.Links(pair)
+            found.below(found.above(found) | found & found).way_to(order.Links.plain(len(pair[0])))
+            with self.subTest(pair=kept):
+                self.assertEqual(pair, kept)
 
     def test_arguments_stay_as_they_were_where_an_error_is_raised(self):
         for function, named in CALLS:
@@ -174,13 +215,27 @@ class NewLists(unittest.TestCase):
     def test_no_list_stands_twice(self):
         for places in (1, 2, 3, 4):
             for pair in samples.all_pairs(places)[::7] + [samples.plain(places), samples.totals(places)]:
-                for found in (links.counts(pair), signs.alike_pairs(pair)):
+                for found in (links.counts(pair), signs.alike_pairs(pair), covers.covers(pair), trees.turned(pair)):
                     with self.subTest(pair=pair, found=found):
                         self.check_apart(found, pair)
 
     def test_no_list_stands_twice_in_the_counts_of_sixteen_places(self):
         pair = samples.plain(16)
         self.check_apart(links.counts(pair), pair)
+        self.check_apart(covers.covers(pair), pair)
+
+    def test_lists_that_equal_what_was_passed_are_new(self):
+        for pair in samples.some_right_pairs():
+            places = len(pair[0])
+            told = list(range(places))
+            self.assertIsNot(covers.right_totals(pair, told), told)
+            self.assertIsNot(covers.values_by_totals(two(places), told), told)
+            for move in moves.forward_moves(pair) + moves.back_moves(pair):
+                self.check_apart(moves.moved(pair, move), pair)
+            self.check_apart(trees.turned(pair), pair)
+            self.check_apart((trees.up_for(pair[0]), trees.down_for(pair[1])), pair)
+            self.check_apart(trees.pair_of(trees.tree_of(pair)), pair)
+            self.check_apart(order.Links(pair).pair, pair)
 
     def test_lists_that_equal_an_argument_are_new(self):
         values = [1, 2, 3]
@@ -218,6 +273,10 @@ def pair_calls(pair):
         (links.count, pair, 1, 1), (links.counts, pair), (signs.signed_sums, pair), (signs.alike_pairs, pair),
         (signs.are_alike, pair, ([0], [2])), (signs.are_alike, ([0], [2]), pair),
         (signs.parting, pair, ([0], [2])), (signs.parting, ([0], [2]), pair),
+        (covers.covers, pair), (covers.right_totals, pair, [1]), (covers.values_by_totals, pair, [1]),
+        (covers.right_changes, pair, 1, 1), (trees.is_right, pair), (trees.tree_of, pair), (trees.depths, pair),
+        (trees.turned, pair), (moves.forward_moves, pair), (moves.back_moves, pair), (moves.moved, pair, (1, 2)),
+        (order.Links, pair), (order.Links.fits, pair),
     ]
 
 
@@ -259,6 +318,13 @@ class WrongPairs(Raising):
             self.assertIsNone(signs.parting(pair, pair))
             self.assertIs(signs.are_alike(pair, pair), True)
             self.assertEqual(signs.signed_sums(pair), signs.signed_sums(copy.deepcopy(pair)))
+            self.assertEqual(len(covers.covers(pair)), 16)
+            self.assertEqual(len(covers.right_totals(pair, [1] * 16)), 16)
+            self.assertEqual(len(covers.values_by_totals(pair, [1] * 16)), 16)
+            self.assertEqual(len(covers.right_changes(pair, 16, 1)), 16)
+            self.assertEqual(len(trees.turned(pair)[0]), 16)
+            self.assertIs(trees.is_right(pair), pair != two(16))
+            self.assertIs(order.Links.fits(pair), pair != two(16))
 
 
 class WrongTables(Raising):
@@ -267,6 +333,8 @@ class WrongTables(Raising):
             with self.subTest(thing=type(thing)):
                 self.check_pair_error("down", None, links.walk_down, thing, 1)
                 self.check_pair_error("down", None, links.total, thing, [1], 1)
+                self.check_pair_error("down", None, trees.up_for, thing)
+                self.check_pair_error("up", None, trees.down_for, thing)
                 self.check_pair_error("up", None, links.walk_up, thing, 1)
                 self.check_pair_error("up", None, links.cells_of, thing, [1])
                 self.check_pair_error("up", None, links.values_of, thing, [1])
@@ -276,11 +344,13 @@ class WrongTables(Raising):
             with self.subTest(place=place):
                 self.check_pair_error("down", place, links.walk_down, down, 1)
                 self.check_pair_error("down", place, links.total, down, [1] * len(down), 1)
+                self.check_pair_error("down", place, trees.up_for, down)
 
     def test_wrong_up_links(self):
         for up, place in wrong_ups():
             with self.subTest(place=place):
                 self.check_pair_error("up", place, links.walk_up, up, 1)
+                self.check_pair_error("up", place, trees.down_for, up)
                 self.check_pair_error("up", place, links.cells_of, up, [1] * len(up))
                 self.check_pair_error("up", place, links.values_of, up, [1] * len(up))
 
@@ -289,6 +359,8 @@ class WrongTables(Raising):
         self.assertEqual(links.walk_down(down, 16), [16])
         self.assertEqual(links.walk_up(up, 16), [16])
         self.assertEqual(links.total(down, [2] * 16, 16), 2)
+        self.assertEqual(trees.up_for(down), list(range(2, 18)))
+        self.assertEqual(trees.down_for(up), list(range(16)))
         self.assertEqual(links.cells_of(up, [2] * 16), [2] * 16)
         self.assertEqual(links.values_of(up, [2] * 16), [2] * 16)
 
@@ -305,6 +377,7 @@ class WrongPlaces(Raising):
                 self.check_place_error(thing, links.total, DOWN, ROW, thing)
                 self.check_place_error(thing, links.count, PAIR, thing, 1)
                 self.check_place_error(thing, links.count, PAIR, 1, thing)
+                self.check_place_error(thing, covers.right_changes, PAIR, thing, 1)
 
     def test_of_one_place_and_of_sixteen(self):
         for places in (1, 16):
@@ -316,6 +389,7 @@ class WrongPlaces(Raising):
                     self.check_place_error(thing, links.total, down, [1] * places, thing)
                     self.check_place_error(thing, links.count, (down, up), thing, 1)
                     self.check_place_error(thing, links.count, (down, up), 1, thing)
+                    self.check_place_error(thing, covers.right_changes, (down, up), thing, 1)
 
     def test_the_first_place_comes_first(self):
         for first in (4, None, "b"):
@@ -329,6 +403,8 @@ class WrongValues(Raising):
         lambda row: links.cells_of([2, 3, 4], row),
         lambda row: links.values_of([2, 3, 4], row),
         lambda row: links.total([0, 1, 2], row, 1),
+        lambda row: covers.right_totals(PAIR, row),
+        lambda row: covers.values_by_totals(PAIR, row),
     ]
 
     def check_values_error(self, place, row):
@@ -401,7 +477,101 @@ class TooManyPlaces(Raising):
         self.check_pair_error(None, None, signs.alike_pairs, two(17))
 
 
+class WrongNumbers(Raising):
+    def test_what_totals_rise_by(self):
+        for thing in NO_NUMBERS + [NoWholeThing(), PAIR, samples]:
+            with self.subTest(thing=type(thing)):
+                for place in (1, 2, 3):
+                    error = self.raised(InvalidNumber, covers.right_changes, PAIR, place, thing)
+                    self.assertIs(error.number, thing)
+
+    def test_numbers_of_places(self):
+        for thing in NO_NUMBERS + [NoWholeThing(), PAIR, 0, 17, -1, samples.TWENTY, -samples.TWENTY]:
+            for made in (order.Links.plain, order.Links.totals, order.Links.by_powers):
+                with self.subTest(made=made.__name__, thing=type(thing)):
+                    self.assertIs(self.raised(InvalidNumber, made, thing).number, thing)
+
+
+class PairsThatAreNotRight(Raising):
+    CALLED = [trees.tree_of, trees.depths, order.Links]
+
+    def check_not_right(self, pair, first, second):
+        for function in self.CALLED:
+            error = self.raised(NotRight, function, pair)
+            self.assertEqual((error.first, error.second), (first, second))
+            self.assertEqual((type(error.first), type(error.second)), (int, int))
+
+    def test_the_least_distance_and_of_these_the_least_second_place(self):
+        self.check_not_right(([0, 1], [2, 3]), 2, 1)
+        self.check_not_right(([0, 0], [3, 3]), 2, 1)
+        self.check_not_right(([0, 0, 0, 0], [5, 5, 5, 5]), 2, 1)
+        # Only the counts of 3 and 1, of 4 and 2 and of 4 and 1 are not 1.
+        self.check_not_right(([0, 1, 2, 3], [3, 4, 5, 5]), 3, 1)
+        self.check_not_right(([0, 1, 2, 3], [4, 5, 5, 5]), 4, 1)
+        # The count of 4 and 1 is not 1 either, but 5 and 3 are nearer.
+        self.check_not_right(([0, 1, 2, 3, 4], [4, 6, 5, 6, 6]), 5, 3)
+
+    def test_all_pairs(self):
+        found = 0
+        for pair in samples.some_pairs() + samples.all_pairs(4):
+            wrong = samples.first_wrong(pair)
+            if wrong is not None:
+                with self.subTest(pair=pair):
+                    self.check_not_right(pair, *wrong)
+                    found += 1
+        self.assertGreater(found, 500)
+
+    def test_right_pairs(self):
+        for pair in samples.some_right_pairs():
+            for function in self.CALLED:
+                with self.subTest(function.__name__, pair=pair):
+                    function(pair)
+
+    def test_other_functions_take_pairs_that_are_not_right(self):
+        for call in pair_calls(PAIR):
+            if call[0] not in self.CALLED + [signs.are_alike, signs.parting, moves.moved]:
+                with self.subTest(call[0].__name__):
+                    function, *arguments = call
+                    function(*[ROW if argument == [1] else argument for argument in arguments])
+
+
 class TheFirstArgumentComesFirst(Raising):
+    def test_pairs_before_totals(self):
+        for function in (covers.right_totals, covers.values_by_totals):
+            self.check_pair_error(None, None, function, None, None)
+            self.check_pair_error("down", 2, function, ([0, 2], [1, 1]), [None])
+            self.check_pair_error("up", 2, function, ([0, 0], [2, 2]), 9)
+
+    def test_pairs_before_places_before_numbers(self):
+        self.check_pair_error(None, None, covers.right_changes, None, None, None)
+        self.check_pair_error("up", 1, covers.right_changes, ([0, 0], [1, 2]), 3, "1")
+        self.assertEqual(self.raised(UnknownPlace, covers.right_changes, PAIR, 4, None).place, 4)
+        self.assertIs(self.raised(UnknownPlace, covers.right_changes, PAIR, True, True).place, True)
+
+    def test_pairs_before_moves(self):
+        self.check_pair_error(None, None, moves.moved, None, None)
+        self.check_pair_error("down", 1, moves.moved, ([1, 0], [2, 3]), (1, True))
+        self.check_pair_error("up", 2, moves.moved, ([0, 0], [2, 2]), ())
+        self.assertEqual(self.raised(NoMove, moves.moved, PAIR, ()).move, ())
+
+    def test_wrong_links_before_pairs_that_are_not_right(self):
+        # The counts of the nearest places are wrong, too, as far as the links tell.
+        for function in PairsThatAreNotRight.CALLED:
+            self.check_pair_error("down", 3, function, ([0, 0, 3], [4, 4, 4]))
+            self.check_pair_error("up", 3, function, ([0, 0, 0], [4, 4, 3]))
+            self.check_pair_error(None, None, function, ([0, 0, 0], [4, 4]))
+
+    def test_by_name_in_another_order_too(self):
+        with self.assertRaises(InvalidPair):
+            covers.right_changes(more=None, place=9, pair=None)
+        with self.assertRaises(UnknownPlace) as caught:
+            covers.right_changes(more=None, place=9, pair=PAIR)
+        self.assertEqual(caught.exception.place, 9)
+        with self.assertRaises(InvalidPair):
+            moves.moved(move=None, pair=None)
+        with self.assertRaises(InvalidTree):
+            trees.pair_of(tree=[])
+
     def test_tables_before_places(self):
         self.check_pair_error("down", 1, links.walk_down, [1], 9)
         self.check_pair_error("down", None, links.walk_down, None, None)

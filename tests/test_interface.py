@@ -24,7 +24,51 @@ FUNCTIONS = {
         "parting": ["pair", "other"],
         "alike_pairs": ["pair"],
     },
+    "linksums.covers": {
+        "covers": ["pair"],
+        "right_totals": ["pair", "totals"],
+        "values_by_totals": ["pair", "totals"],
+        "right_changes": ["pair", "place", "more"],
+    },
+    "linksums.trees": {
+        "is_right": ["pair"],
+        "up_for": ["down"],
+        "down_for": ["up"],
+        "tree_of": ["pair"],
+        "pair_of": ["tree"],
+        "depths": ["pair"],
+        "turned": ["pair"],
+    },
+    "linksums.moves": {
+        "forward_moves": ["pair"],
+        "back_moves": ["pair"],
+        "moved": ["pair", "move"],
+    },
 }
+
+# What must stand in the body of each class itself. A star stands before a parameter that takes any number.
+PROPERTIES = {("linksums.order", "Links"): ["pair", "down", "up", "places"]}
+METHODS = {
+    ("linksums.order", "Links"): {
+        "__init__": ["self", "pair"],
+        "__len__": ["self"],
+        "__eq__": ["self", "other"],
+        "__and__": ["self", "other"],
+        "__or__": ["self", "other"],
+        "leads_to": ["self", "other"],
+        "way_to": ["self", "other"],
+        "below": ["self", "*others"],
+        "above": ["self", "*others"],
+    },
+}
+CLASS_METHODS = {
+    ("linksums.order", "Links"): {
+        "plain": ["cls", "places"],
+        "totals": ["cls", "places"],
+        "by_powers": ["cls", "places"],
+    },
+}
+STATIC_METHODS = {("linksums.order", "Links"): {"fits": ["pair"]}}
 
 # Word for word as the document gives them.
 LINKS_EXAMPLES = """
@@ -44,6 +88,38 @@ SIGNS_EXAMPLES = """
 >>> are_alike(([0, 0, 1, 2], [4, 3, 5, 5]), ([0, 0, 2, 1], [3, 4, 5, 5])), alike_pairs(([0, 0], [2, 3]))
 (True, [([0, 0], [2, 3]), ([0, 1], [3, 3])])
 """
+COVERS_EXAMPLES = """
+>>> from linksums.covers import covers, right_changes, right_totals, values_by_totals
+>>> pair = ([0, 1, 1], [3, 4, 4])
+>>> covers(pair), right_totals(pair, [5, 8, 17]), values_by_totals(pair, [5, 8, 17]), right_changes(pair, 1, 1)
+([[1, 0, 0], [1, 1, 0], [0, 2, 1]], [5, 8, 15], [5, 3, 7], [1, 0, -1])
+"""
+TREES_EXAMPLES = """
+>>> from linksums.trees import depths, is_right, tree_of, up_for
+>>> pair = ([0, 0, 2, 0, 4], [2, 4, 4, 6, 6])
+>>> tree_of(pair), depths(pair), is_right(([0, 1, 0], [2, 3, 4]))
+((((None, 1, None), 2, (None, 3, None)), 4, (None, 5, None)), [3, 2, 3, 1, 2], False)
+>>> up_for([0, 0, 2, 0, 4]), up_for([0, 0, 1])
+([2, 4, 4, 6, 6], None)
+"""
+MOVES_EXAMPLES = """
+>>> from linksums.moves import back_moves, forward_moves, moved
+>>> forward_moves(([0, 0], [2, 3])), back_moves(([0, 0], [2, 3])), moved(([0, 0], [2, 3]), (1, 2))
+([(1, 2)], [], ([0, 1], [3, 3]))
+"""
+ORDER_EXAMPLES = """
+>>> from linksums.order import Links
+>>> Links.totals(2).way_to(Links.plain(2)), Links.by_powers(5).pair
+([(1, 2)], ([0, 0, 2, 0, 4], [2, 4, 4, 6, 6]))
+>>> (Links(([0, 0, 2], [2, 4, 4])) & Links(([0, 1, 0], [3, 3, 4]))).pair
+([0, 0, 0], [2, 3, 4])
+"""
+
+
+def found_class(key):
+    """A class, by the file that defines it and its name."""
+    file, name = key
+    return getattr(importlib.import_module(file), name)
 
 
 class Interface(unittest.TestCase):
@@ -60,6 +136,42 @@ class Interface(unittest.TestCase):
                         self.assertIs(parameter.kind, inspect.Parameter.POSITIONAL_OR_KEYWORD)
                         self.assertIs(parameter.default, inspect.Parameter.empty)
 
+    def test_classes_are_defined_in_their_files(self):
+        for key in METHODS:
+            with self.subTest(key):
+                self.assertTrue(inspect.isclass(found_class(key)))
+                self.assertEqual(found_class(key).__module__, key[0])
+
+    def test_methods_and_their_parameters(self):
+        for key, methods in METHODS.items():
+            for name, wanted in methods.items():
+                self.check_method(vars(found_class(key))[name], wanted)
+
+    def test_class_methods_and_static_methods(self):
+        for kind, listed in ((classmethod, CLASS_METHODS), (staticmethod, STATIC_METHODS)):
+            for key, methods in listed.items():
+                for name, wanted in methods.items():
+                    method = vars(found_class(key))[name]
+                    self.assertIs(type(method), kind)
+                    self.check_method(method.__func__, wanted)
+
+    def test_properties_are_only_read(self):
+        for key, names in PROPERTIES.items():
+            for name in names:
+                with self.subTest(key, name=name):
+                    found = vars(found_class(key))[name]
+                    self.assertIs(type(found), property)
+                    self.assertIsNone(found.fset)
+
+    def check_method(self, method, wanted):
+        with self.subTest(method.__qualname__):
+            self.assertTrue(inspect.isfunction(method))
+            stars = {inspect.Parameter.POSITIONAL_OR_KEYWORD: "", inspect.Parameter.VAR_POSITIONAL: "*"}
+            parameters = inspect.signature(method).parameters.values()
+            self.assertEqual([stars[parameter.kind] + parameter.name for parameter in parameters], wanted)
+            for parameter in parameters:
+                self.assertIs(parameter.default, inspect.Parameter.empty)
+
 
 class Examples(unittest.TestCase):
     def test_links(self):
@@ -67,6 +179,18 @@ class Examples(unittest.TestCase):
 
     def test_signs(self):
         self.check_examples(SIGNS_EXAMPLES, "linksums.signs", 3)
+
+    def test_covers(self):
+        self.check_examples(COVERS_EXAMPLES, "linksums.covers", 3)
+
+    def test_trees(self):
+        self.check_examples(TREES_EXAMPLES, "linksums.trees", 4)
+
+    def test_moves(self):
+        self.check_examples(MOVES_EXAMPLES, "linksums.moves", 2)
+
+    def test_order(self):
+        self.check_examples(ORDER_EXAMPLES, "linksums.order", 3)
 
     def test_readme(self):
         with open(os.path.join(ROOT, "README.md"), encoding="utf-8") as file:
