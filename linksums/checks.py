@@ -13,14 +13,14 @@ def is_whole(thing):
 
 def check_down(down):
     """Check a down table that stands alone."""
-    if not _is_table(down):
+    if not _is_row_of_places(down):
         raise InvalidPair("down", None)
     _check_down_links(down)
 
 
 def check_up(up):
     """Check an up table that stands alone."""
-    if not _is_table(up):
+    if not _is_row_of_places(up):
         raise InvalidPair("up", None)
     _check_up_links(up)
 
@@ -51,11 +51,31 @@ def check_place(place, places):
 
 def check_values(values, places):
     """Check a list of as many whole numbers as there are places."""
-    if not isinstance(values, list) or len(values) != places:
-        raise InvalidValues(None)
+    check_row(values, places)
     for place, value in enumerate(values, 1):
         if not is_whole(value):
             raise InvalidValues(place)
+
+
+def check_row(row, places):
+    """Check a list of as many things of any kind as there are places."""
+    if not isinstance(row, list) or len(row) != places:
+        raise InvalidValues(None)
+
+
+def check_amounts(amounts, places):
+    """Check a list of as many whole numbers as there are places, none of them below 0."""
+    check_row(amounts, places)
+    for place, amount in enumerate(amounts, 1):
+        if not is_whole(amount) or amount < 0:
+            raise InvalidValues(place)
+
+
+def check_asked(asked):
+    """Check the numbers of questions where they themselves tell how many places there are."""
+    if not _is_row_of_places(asked):
+        raise InvalidValues(None)
+    check_amounts(asked, len(asked))
 
 
 def check_number(number):
@@ -64,13 +84,18 @@ def check_number(number):
         raise InvalidNumber(number)
 
 
+def check_number_between(number, least, most):
+    """Check a whole number that has to be from the least to the most."""
+    if not is_whole(number) or not least <= number <= most:
+        raise InvalidNumber(number)
+
+
 def check_number_of_places(places):
     """Check a number of places."""
-    if not is_whole(places) or not 1 <= places <= MOST_PLACES:
-        raise InvalidNumber(places)
+    check_number_between(places, 1, MOST_PLACES)
 
 
-def _is_table(thing):
+def _is_row_of_places(thing):
     return isinstance(thing, list) and 1 <= len(thing) <= MOST_PLACES
 
 
@@ -78,7 +103,7 @@ def _is_two_tables(thing):
     if not isinstance(thing, tuple) or len(thing) != 2:
         return False
     down, up = thing
-    return _is_table(down) and _is_table(up) and len(down) == len(up)
+    return _is_row_of_places(down) and _is_row_of_places(up) and len(down) == len(up)
 
 
 def _check_down_links(down):

@@ -26,17 +26,27 @@ def plain_pair(places):
     return (list(range(places)), [places + 1] * places)
 
 
+def up_links(down):
+    """Return for each place the least greater one whose down link is less than it, or one more than all places."""
+    return [_least_above(down, place) for place in range(1, len(down) + 1)]
+
+
+def down_links(up):
+    """Return for each place the greatest lesser one whose up link is greater than it, or 0."""
+    return [_greatest_below(up, place) for place in range(1, len(up) + 1)]
+
+
 def up_for(down):
     """Return the up table with which a down table is a right pair, or None."""
     check_down(down)
-    up = [_least_above(down, place) for place in range(1, len(down) + 1)]
+    up = up_links(down)
     return up if is_right((down, up)) else None
 
 
 def down_for(up):
     """Return the down table with which an up table is a right pair, or None."""
     check_up(up)
-    down = [_greatest_below(up, place) for place in range(1, len(up) + 1)]
+    down = down_links(up)
     return down if is_right((down, up)) else None
 
 

@@ -240,6 +240,31 @@ def some_right_pairs():
     return pairs + [defined_pair(tree, places) for places, tree in large_trees()]
 
 
+def drawn_pairs(most=16, seeds=6):
+    """Pairs of 4 to 16 places that are drawn, some with long links and some with short ones."""
+    return [draw(places, seed) for places in range(4, most + 1) for seed in range(seeds) for draw in (mixed, close)]
+
+
+def walks_down(pair):
+    """The walk down from each place."""
+    return [defined_walk(pair[0], k, 0) for k in range(1, len(pair[0]) + 1)]
+
+
+def walks_up(pair):
+    """The walk up from each place."""
+    return [defined_walk(pair[1], k, len(pair[1]) + 1) for k in range(1, len(pair[1]) + 1)]
+
+
+def changed_links(pair, other):
+    """The number of links, in both tables together, in which two pairs differ."""
+    return sum(one != two for ours, theirs in zip(pair, other) for one, two in zip(ours, theirs))
+
+
+def counts_that_should_be_1(pair):
+    """All counts of a place and one that is not greater."""
+    return [often for i, row in enumerate(defined_counts(pair), 1) for often in row[:i]]
+
+
 def lists_in(thing):
     """All lists within a thing, itself included, each as often as it stands there."""
     if not isinstance(thing, (list, tuple)):

@@ -3,17 +3,23 @@
 import copy
 import unittest
 
-from linksums import covers, links, moves, order, signs, trees
+from linksums import covers, joins, links, lists, moves, order, prices, signs, trees
 from linksums.errors import (InvalidNumber, InvalidPair, InvalidTree, InvalidValues, NoMove, NotRight, UnequalPairs,
                              UnknownPlace)
 from tests import samples
+from tests.wrong_things import (NO_NUMBERS, NO_PLACES, NoWholeThing, Raising, no_tables, no_two_tables, two,
+                                wrong_downs, wrong_ups)
 
 PAIR = ([0, 1, 0], [2, 3, 4])
 OTHER = ([0, 1, 2], [4, 4, 4])
 RIGHT = ([0, 0, 2], [2, 4, 4])
+# The counts of its places 2 and 1, and of 3 and 1, are 0.
+MISSING = ([0, 0, 2], [4, 4, 4])
 TREE = ((None, 1, None), 2, (None, 3, None))
 DOWN, UP = PAIR
 ROW = [5, -6, 7]
+ASKED, CHANGED = [3, 0, 4], [1, 5, 0]
+PRICES = prices.price_table(ASKED, CHANGED)
 
 # Each function with the names of its parameters and right arguments for them.
 CALLS = [
@@ -45,68 +51,29 @@ CALLS = [
     (order.Links, {"pair": RIGHT}),
     (order.Links.fits, {"pair": RIGHT}),
     (order.Links.by_powers, {"places": 6}),
+    (lists.count_right, {"places": 5}),
+    (lists.pair_number, {"pair": RIGHT}),
+    (lists.numbered_pair, {"places": 4, "number": 9}),
+    (lists.count_within, {"places": 5, "down_most": 2, "up_most": 3}),
+    (lists.most_places, {"down_most": 2, "up_most": 3}),
+    (lists.fullest_pair, {"down_most": 2, "up_most": 3}),
+    (lists.count_by_looks, {"places": 3, "down_all": 4, "up_all": 5}),
+    (joins.limits, {"down": DOWN}),
+    (joins.never_misses, {"pair": PAIR}),
+    (joins.never_twice, {"pair": PAIR}),
+    (joins.count_never_missing, {"down": DOWN}),
+    (joins.right_within, {"pair": PAIR}),
+    (joins.clashes, {"pair": MISSING}),
+    (joins.clashes_apart, {"pair": MISSING}),
+    (joins.nearest_never_missing, {"pair": MISSING}),
+    (prices.price, {"pair": PAIR, "asked": ASKED, "changed": CHANGED}),
+    (prices.cheapest, {"asked": ASKED, "changed": CHANGED}),
+    (prices.price_table, {"asked": ASKED, "changed": CHANGED}),
+    (prices.is_price_table, {"asked": ASKED, "changed": CHANGED, "table": PRICES}),
 ]
 
-# No whole numbers, and whole numbers that are no places of three.
-NO_NUMBERS = [True, False, None, "1", "", b"1", 1.0, [1], (1,), {1: 1}, {1}, object()]
-NO_PLACES = NO_NUMBERS + [0, 4, -1, 17, samples.TWENTY, -samples.TWENTY]
-
-
-class NoWholeThing:
-    """A thing that fails when it is compared, so it must not be taken for a number."""
-
-    def __eq__(self, other):
-        raise RuntimeError("compared")
-
-    __lt__ = __le__ = __gt__ = __ge__ = __eq__
-    __hash__ = None
-
-
-def two(places):
-    """A down table and an up table, without links that are wrong, for so many places."""
-    return [0] * places, [places + 1] * places
-
-
-def no_two_tables():
-    """Things that are no tuple of two lists of equally many things, 1 to 16."""
-    down, up = two(3)
-    seventeen = two(17)
-    return [
-        None, True, 0, 3, "", "ab", b"ab", {}, {0: down, 1: up}, {1, 2}, object(), NoWholeThing(),
-        (), (down,), (down, up, up), (down, up, None), [down, up], [], down,
-        (tuple(down), up), (down, tuple(up)), (tuple(down), tuple(up)), (down, None), (None, up), (None, None),
-        (down, "abc"), ("abc", up), (down, {1: 4, 2: 4, 3: 4}), (down, 3), (3, up), (down, range(3)),
-        ([], []), (down, []), ([], up), (down, up[:2]), (down[:2], up), (down, up + [4]), (down + [0], up),
-        seventeen, (seventeen[0], two(16)[1]), (two(16)[0], seventeen[1]), two(100),
-        # The links are wrong, too, but this comes first.
-        ([None] * 17, [None] * 17), ([9], [9, 9]), [[9], [9]], ((9,), (9,)),
-    ]
-
-
-def no_tables():
-    """Things that are no list of 1 to 16 things."""
-    return [None, True, 0, 3, "", "abc", b"abc", {}, {0: 0}, {0}, (0, 0, 0), (), range(3), object(), NoWholeThing(),
-            [], [0] * 17, [18] * 17, [None] * 17, [0] * 100, PAIR]
-
-
-def wrong_downs():
-    """Down tables with wrong links, and the first wrong place of each."""
-    rows = [([0, 1, 2, link], 4) for link in [4, 5, 6, -1, samples.TWENTY, -samples.TWENTY] + NO_NUMBERS]
-    rows += [([link, 0, 0], 1) for link in [1, 2, -1] + NO_NUMBERS]
-    rows += [([0, link, 0], 2) for link in [2, 3, 4, -1, NoWholeThing()] + NO_NUMBERS]
-    rows += [([0, 2, 3, 4], 2), ([0, 0, None, True], 3), ([1, True, None], 1), ([False], 1), ([1], 1), ([None], 1)]
-    rows += [([0] * 15 + [16], 16), ([0] * 15 + [-1], 16), ([0] * 9 + [10] * 7, 10)]
-    return rows
-
-
-def wrong_ups():
-    """Up tables with wrong links, and the first wrong place of each."""
-    rows = [([2, 3, 4, link], 4) for link in [0, 1, 4, 6, -5, samples.TWENTY, -samples.TWENTY] + NO_NUMBERS]
-    rows += [([link, 4, 4], 1) for link in [0, 1, 5, -1] + NO_NUMBERS]
-    rows += [([2, link, 4], 2) for link in [0, 1, 2, 5, -3, NoWholeThing()] + NO_NUMBERS]
-    rows += [([5, 2, 3, 4], 2), ([4, 4, None, True], 3), ([5, True, None], 1), ([True], 1), ([1], 1), ([3], 1)]
-    rows += [([17] * 15 + [16], 16), ([17] * 15 + [18], 16), ([17] * 9 + [10] * 7, 10)]
-    return rows
+# What may be anything, so that no error is stated for it.
+ANYTHING = ["table", "join", "nought"]
 
 
 class Calling(unittest.TestCase):
@@ -159,6 +126,15 @@ class Calling(unittest.TestCase):
             trees.up_for(pair[0])
             trees.down_for(pair[1])
             trees.turned(pair)
+            joins.limits(pair[0])
+            joins.never_misses(pair)
+            joins.never_twice(pair)
+            joins.count_never_missing(pair[0])
+            joins.right_within(pair)
+            joins.clashes(pair)
+            joins.clashes_apart(pair)
+            joins.nearest_never_missing(pair)
+            prices.price(pair, row, row)
             for move in moves.forward_moves(pair) + moves.back_moves(pair):
                 moves.moved(pair, move)
             order.Links.fits(pair)
@@ -171,6 +147,7 @@ class Calling(unittest.TestCase):
             kept = copy.deepcopy(pair)
             trees.tree_of(pair)
             trees.depths(pair)
+            lists.pair_number(pair)
             found = order.Links(pair)
             found.below(found.above(found) | found & found).way_to(order.Links.plain(len(pair[0])))
             with self.subTest(pair=kept):
@@ -178,7 +155,7 @@ class Calling(unittest.TestCase):
 
     def test_arguments_stay_as_they_were_where_an_error_is_raised(self):
         for function, named in CALLS:
-            for name in named:
+            for name in [name for name in named if name not in ANYTHING]:
                 wrong = copy.deepcopy(dict(named, **{name: ([0, 2], [2, 3])}))
                 kept = copy.deepcopy(wrong)
                 with self.subTest(function.__name__, name=name):
@@ -215,7 +192,8 @@ class NewLists(unittest.TestCase):
     def test_no_list_stands_twice(self):
         for places in (1, 2, 3, 4):
             for pair in samples.all_pairs(places)[::7] + [samples.plain(places), samples.totals(places)]:
-                for found in (links.counts(pair), signs.alike_pairs(pair), covers.covers(pair), trees.turned(pair)):
+                for found in (links.counts(pair), signs.alike_pairs(pair), covers.covers(pair), trees.turned(pair),
+                              joins.nearest_never_missing(pair), joins.right_within(pair)):
                     with self.subTest(pair=pair, found=found):
                         self.check_apart(found, pair)
 
@@ -236,6 +214,8 @@ class NewLists(unittest.TestCase):
             self.check_apart((trees.up_for(pair[0]), trees.down_for(pair[1])), pair)
             self.check_apart(trees.pair_of(trees.tree_of(pair)), pair)
             self.check_apart(order.Links(pair).pair, pair)
+            self.check_apart(joins.nearest_never_missing(pair), pair)
+            self.check_apart((joins.right_within(pair), joins.limits(pair[0])), pair)
 
     def test_lists_that_equal_an_argument_are_new(self):
         values = [1, 2, 3]
@@ -252,21 +232,6 @@ class NewLists(unittest.TestCase):
             self.assertIsNot(part, pair[1])
 
 
-class Raising(unittest.TestCase):
-    """Helps the tests of errors: they look at the class itself, and at each field."""
-
-    def raised(self, kind, function, *arguments):
-        with self.assertRaises(kind) as caught:
-            function(*arguments)
-        self.assertIs(type(caught.exception), kind)
-        return caught.exception
-
-    def check_pair_error(self, table, place, function, *arguments):
-        error = self.raised(InvalidPair, function, *arguments)
-        self.assertEqual((error.table, error.place), (table, place))
-        self.assertIsNot(type(error.place), bool)
-
-
 def pair_calls(pair):
     """All calls to which a pair is passed, with other arguments that are right."""
     return [
@@ -276,7 +241,10 @@ def pair_calls(pair):
         (covers.covers, pair), (covers.right_totals, pair, [1]), (covers.values_by_totals, pair, [1]),
         (covers.right_changes, pair, 1, 1), (trees.is_right, pair), (trees.tree_of, pair), (trees.depths, pair),
         (trees.turned, pair), (moves.forward_moves, pair), (moves.back_moves, pair), (moves.moved, pair, (1, 2)),
-        (order.Links, pair), (order.Links.fits, pair),
+        (order.Links, pair), (order.Links.fits, pair), (lists.pair_number, pair), (joins.never_misses, pair),
+        (joins.never_twice, pair), (joins.right_within, pair), (joins.clashes, pair), (joins.clashes_apart, pair),
+        (joins.nearest_never_missing, pair), (joins.JoinBook, pair, max, 0), (joins.OrderBook, pair, max, [1]),
+        (prices.price, pair, [1], [1]),
     ]
 
 
@@ -325,6 +293,14 @@ class WrongPairs(Raising):
             self.assertEqual(len(trees.turned(pair)[0]), 16)
             self.assertIs(trees.is_right(pair), pair != two(16))
             self.assertIs(order.Links.fits(pair), pair != two(16))
+            self.assertIs(joins.never_misses(pair), pair != two(16))
+            self.assertIs(joins.never_twice(pair), True)
+            self.assertIs(joins.right_within(pair) is None, pair == two(16))
+            self.assertEqual(len(joins.clashes(pair)), 120 if pair == two(16) else 0)
+            self.assertEqual(len(joins.clashes_apart(pair)), 15 if pair == two(16) else 0)
+            self.assertEqual(len(joins.nearest_never_missing(pair)[0]), 16)
+            self.assertEqual(len(joins.JoinBook(pair, max, 0).cells), 16)
+            self.assertGreaterEqual(prices.price(pair, [1] * 16, [1] * 16), 32)
 
 
 class WrongTables(Raising):
@@ -334,6 +310,8 @@ class WrongTables(Raising):
                 self.check_pair_error("down", None, links.walk_down, thing, 1)
                 self.check_pair_error("down", None, links.total, thing, [1], 1)
                 self.check_pair_error("down", None, trees.up_for, thing)
+                self.check_pair_error("down", None, joins.limits, thing)
+                self.check_pair_error("down", None, joins.count_never_missing, thing)
                 self.check_pair_error("up", None, trees.down_for, thing)
                 self.check_pair_error("up", None, links.walk_up, thing, 1)
                 self.check_pair_error("up", None, links.cells_of, thing, [1])
@@ -345,6 +323,8 @@ class WrongTables(Raising):
                 self.check_pair_error("down", place, links.walk_down, down, 1)
                 self.check_pair_error("down", place, links.total, down, [1] * len(down), 1)
                 self.check_pair_error("down", place, trees.up_for, down)
+                self.check_pair_error("down", place, joins.limits, down)
+                self.check_pair_error("down", place, joins.count_never_missing, down)
 
     def test_wrong_up_links(self):
         for up, place in wrong_ups():
@@ -360,6 +340,8 @@ class WrongTables(Raising):
         self.assertEqual(links.walk_up(up, 16), [16])
         self.assertEqual(links.total(down, [2] * 16, 16), 2)
         self.assertEqual(trees.up_for(down), list(range(2, 18)))
+        self.assertEqual(joins.limits(down), list(range(2, 18)))
+        self.assertEqual(joins.count_never_missing(down), 1)
         self.assertEqual(trees.down_for(up), list(range(16)))
         self.assertEqual(links.cells_of(up, [2] * 16), [2] * 16)
         self.assertEqual(links.values_of(up, [2] * 16), [2] * 16)
@@ -492,8 +474,13 @@ class WrongNumbers(Raising):
                     self.assertIs(self.raised(InvalidNumber, made, thing).number, thing)
 
 
+def order_book(pair):
+    """An order book of texts."""
+    return joins.OrderBook(pair, lambda one, two: one + two, ["a"] * len(pair[0]))
+
+
 class PairsThatAreNotRight(Raising):
-    CALLED = [trees.tree_of, trees.depths, order.Links]
+    CALLED = [trees.tree_of, trees.depths, order.Links, lists.pair_number, order_book]
 
     def check_not_right(self, pair, first, second):
         for function in self.CALLED:
@@ -529,10 +516,10 @@ class PairsThatAreNotRight(Raising):
 
     def test_other_functions_take_pairs_that_are_not_right(self):
         for call in pair_calls(PAIR):
-            if call[0] not in self.CALLED + [signs.are_alike, signs.parting, moves.moved]:
+            if call[0] not in self.CALLED + [signs.are_alike, signs.parting, moves.moved, joins.OrderBook]:
                 with self.subTest(call[0].__name__):
                     function, *arguments = call
-                    function(*[ROW if argument == [1] else argument for argument in arguments])
+                    function(*[ASKED if argument == [1] else argument for argument in arguments])
 
 
 class TheFirstArgumentComesFirst(Raising):

@@ -8,6 +8,7 @@ import unittest
 
 ROOT = os.path.dirname(os.path.dirname(os.path.abspath(__file__)))
 
+# Parameters are written as Python shows them.
 FUNCTIONS = {
     "linksums.links": {
         "walk_down": ["down", "place"],
@@ -44,10 +45,40 @@ FUNCTIONS = {
         "back_moves": ["pair"],
         "moved": ["pair", "move"],
     },
+    "linksums.lists": {
+        "count_right": ["places"],
+        "right_pairs": ["places", "*", "start=0"],
+        "pair_number": ["pair"],
+        "numbered_pair": ["places", "number"],
+        "count_within": ["places", "down_most", "up_most"],
+        "most_places": ["down_most", "up_most"],
+        "fullest_pair": ["down_most", "up_most"],
+        "count_by_looks": ["places", "down_all", "up_all"],
+    },
+    "linksums.joins": {
+        "limits": ["down"],
+        "never_misses": ["pair"],
+        "never_twice": ["pair"],
+        "count_never_missing": ["down"],
+        "right_within": ["pair"],
+        "clashes": ["pair"],
+        "clashes_apart": ["pair"],
+        "nearest_never_missing": ["pair"],
+    },
+    "linksums.prices": {
+        "price": ["pair", "asked", "changed"],
+        "cheapest": ["asked", "changed"],
+        "price_table": ["asked", "changed"],
+        "is_price_table": ["asked", "changed", "table"],
+    },
 }
 
-# What must stand in the body of each class itself. A star stands before a parameter that takes any number.
-PROPERTIES = {("linksums.order", "Links"): ["pair", "down", "up", "places"]}
+# What must stand in the body of each class itself.
+PROPERTIES = {
+    ("linksums.order", "Links"): ["pair", "down", "up", "places"],
+    ("linksums.joins", "JoinBook"): ["cells"],
+    ("linksums.joins", "OrderBook"): ["cells"],
+}
 METHODS = {
     ("linksums.order", "Links"): {
         "__init__": ["self", "pair"],
@@ -59,6 +90,16 @@ METHODS = {
         "way_to": ["self", "other"],
         "below": ["self", "*others"],
         "above": ["self", "*others"],
+    },
+    ("linksums.joins", "JoinBook"): {
+        "__init__": ["self", "pair", "join", "nought"],
+        "bring": ["self", "place", "value"],
+        "total": ["self", "place"],
+    },
+    ("linksums.joins", "OrderBook"): {
+        "__init__": ["self", "pair", "join", "row"],
+        "put": ["self", "place", "value"],
+        "total": ["self", "place"],
     },
 }
 CLASS_METHODS = {
@@ -114,6 +155,27 @@ ORDER_EXAMPLES = """
 >>> (Links(([0, 0, 2], [2, 4, 4])) & Links(([0, 1, 0], [3, 3, 4]))).pair
 ([0, 0, 0], [2, 3, 4])
 """
+LISTS_EXAMPLES = """
+>>> from linksums.lists import count_by_looks, count_right, count_within, fullest_pair, most_places, right_pairs
+>>> count_right(4), list(right_pairs(2)), list(right_pairs(3, start=4)), count_within(3, 2, 2), count_by_looks(3, 4, 5)
+(14, [([0, 0], [2, 3]), ([0, 1], [3, 3])], [([0, 1, 2], [4, 4, 4])], 3, 1)
+>>> most_places(2, 2), fullest_pair(2, 2)
+(5, ([0, 1, 0, 3, 3], [3, 3, 6, 5, 6]))
+"""
+JOINS_EXAMPLES = """
+>>> from linksums.joins import count_never_missing, limits, never_misses, never_twice
+>>> limits([0, 1, 0]), count_never_missing([0, 1, 0])
+([3, 3, 4], 2)
+>>> never_misses(([0, 1, 0], [2, 3, 4])), never_twice(([0, 1, 0], [2, 3, 4]))
+(True, False)
+"""
+PRICES_EXAMPLES = """
+>>> from linksums.prices import cheapest, is_price_table, price
+>>> price(([0, 0, 2, 0, 4], [2, 4, 4, 6, 6]), [1, 1, 1, 1, 1], [0, 0, 0, 0, 0]), cheapest([1, 1], [0, 0])
+(7, ([0, 0], [2, 3]))
+>>> is_price_table([1, 1], [0, 0], {(1, 1): 1, (1, 2): 2, (2, 2): 1}), is_price_table([1, 1], [0, 0], {(1, 1): 1, (1, 2): 3, (2, 2): 1})
+(True, False)
+"""
 
 
 def found_class(key):
@@ -130,11 +192,7 @@ class Interface(unittest.TestCase):
                     function = getattr(importlib.import_module(file), name)
                     self.assertTrue(inspect.isfunction(function))
                     self.assertEqual(function.__module__, file)
-                    parameters = inspect.signature(function).parameters.values()
-                    self.assertEqual([parameter.name for parameter in parameters], wanted)
-                    for parameter in parameters:
-                        self.assertIs(parameter.kind, inspect.Parameter.POSITIONAL_OR_KEYWORD)
-                        self.assertIs(parameter.default, inspect.Parameter.empty)
+                    self.assertEqual(str(inspect.signature(function)), f"({', '.join(wanted)})")
 
     def test_classes_are_defined_in_their_files(self):
         for key in METHODS:
@@ -166,11 +224,7 @@ class Interface(unittest.TestCase):
     def check_method(self, method, wanted):
         with self.subTest(method.__qualname__):
             self.assertTrue(inspect.isfunction(method))
-            stars = {inspect.Parameter.POSITIONAL_OR_KEYWORD: "", inspect.Parameter.VAR_POSITIONAL: "*"}
-            parameters = inspect.signature(method).parameters.values()
-            self.assertEqual([stars[parameter.kind] + parameter.name for parameter in parameters], wanted)
-            for parameter in parameters:
-                self.assertIs(parameter.default, inspect.Parameter.empty)
+            self.assertEqual(str(inspect.signature(method)), f"({', '.join(wanted)})")
 
 
 class Examples(unittest.TestCase):
@@ -191,6 +245,15 @@ class Examples(unittest.TestCase):
 
     def test_order(self):
         self.check_examples(ORDER_EXAMPLES, "linksums.order", 3)
+
+    def test_lists(self):
+        self.check_examples(LISTS_EXAMPLES, "linksums.lists", 3)
+
+    def test_joins(self):
+        self.check_examples(JOINS_EXAMPLES, "linksums.joins", 3)
+
+    def test_prices(self):
+        self.check_examples(PRICES_EXAMPLES, "linksums.prices", 3)
 
     def test_readme(self):
         with open(os.path.join(ROOT, "README.md"), encoding="utf-8") as file:
