@@ -49,6 +49,12 @@ def check_place(place, places):
         raise UnknownPlace(place)
 
 
+def check_after(after, places):
+    """Check a place of a table or pair for so many places, or 0."""
+    if not is_whole(after) or not 0 <= after <= places:
+        raise UnknownPlace(after)
+
+
 def check_values(values, places):
     """Check a list of as many whole numbers as there are places."""
     check_row(values, places)

@@ -53,9 +53,13 @@ def down_for(up):
 def tree_of(pair):
     """Return the tree of a right pair: None, or a tuple of its left tree, its root and its right tree."""
     check_right(pair)
+    return _tree(roots_of(pair), 0, len(pair[0]) + 1)
+
+
+def roots_of(pair):
+    """Return the root of each subtree of a right pair, by the places next to the subtree below and above it."""
     down, up = pair
-    roots = {(below + 1, above - 1): place for place, (below, above) in enumerate(zip(down, up), 1)}
-    return _tree(roots, 1, len(down))
+    return {(below, above): place for place, (below, above) in enumerate(zip(down, up), 1)}
 
 
 def pair_of(tree):
@@ -104,11 +108,11 @@ def _greatest_below(up, place):
     return 0
 
 
-def _tree(roots, least, most):
-    if least > most:
+def _tree(roots, below, above):
+    if above - below == 1:
         return None
-    root = roots[least, most]
-    return (_tree(roots, least, root - 1), root, _tree(roots, root + 1, most))
+    root = roots[below, above]
+    return (_tree(roots, below, root), root, _tree(roots, root, above))
 
 
 def _places_of(tree):

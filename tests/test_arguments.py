@@ -3,7 +3,7 @@
 import copy
 import unittest
 
-from linksums import covers, joins, links, lists, moves, order, prices, signs, trees
+from linksums import books, covers, joins, links, lists, mends, moves, order, prices, search, signs, text, trees
 from linksums.errors import (InvalidNumber, InvalidPair, InvalidTree, InvalidValues, NoMove, NotRight, UnequalPairs,
                              UnknownPlace)
 from tests import samples
@@ -19,7 +19,7 @@ TREE = ((None, 1, None), 2, (None, 3, None))
 DOWN, UP = PAIR
 ROW = [5, -6, 7]
 ASKED, CHANGED = [3, 0, 4], [1, 5, 0]
-PRICES = prices.price_table(ASKED, CHANGED)
+PRICES, MENDS = prices.price_table(ASKED, CHANGED), mends.mend_table(PAIR)
 
 # Each function with the names of its parameters and right arguments for them.
 CALLS = [
@@ -70,10 +70,17 @@ CALLS = [
     (prices.cheapest, {"asked": ASKED, "changed": CHANGED}),
     (prices.price_table, {"asked": ASKED, "changed": CHANGED}),
     (prices.is_price_table, {"asked": ASKED, "changed": CHANGED, "table": PRICES}),
+    (mends.wrong_links, {"pair": PAIR}),
+    (mends.mended, {"pair": PAIR}),
+    (mends.mend_table, {"pair": PAIR}),
+    (mends.is_mend_table, {"pair": PAIR, "table": MENDS}),
+    (search.reached, {"pair": RIGHT, "values": ASKED, "least": 4}),
+    (text.format_pair, {"pair": PAIR}),
+    (text.parse_pair, {"text": "0 1 0\n2 3 4"}),
 ]
 
 # What may be anything, so that no error is stated for it.
-ANYTHING = ["table", "join", "nought"]
+ANYTHING = ["table"]
 
 
 class Calling(unittest.TestCase):
@@ -135,6 +142,13 @@ class Calling(unittest.TestCase):
             joins.clashes_apart(pair)
             joins.nearest_never_missing(pair)
             prices.price(pair, row, row)
+            mends.wrong_links(pair)
+            mends.mended(pair)
+            mends.is_mend_table(pair, mends.mend_table(pair))
+            text.format_pair(pair)
+            books.Book(pair, row).turn(pair)
+            books.LateBook(pair).raise_to(1, 1)
+            books.Grid(pair, pair).change(1, 1, 1)
             for move in moves.forward_moves(pair) + moves.back_moves(pair):
                 moves.moved(pair, move)
             order.Links.fits(pair)
@@ -148,6 +162,7 @@ class Calling(unittest.TestCase):
             trees.tree_of(pair)
             trees.depths(pair)
             lists.pair_number(pair)
+            search.reached(pair, list(range(len(pair[0]))), 3)
             found = order.Links(pair)
             found.below(found.above(found) | found & found).way_to(order.Links.plain(len(pair[0])))
             with self.subTest(pair=kept):
@@ -193,7 +208,8 @@ class NewLists(unittest.TestCase):
         for places in (1, 2, 3, 4):
             for pair in samples.all_pairs(places)[::7] + [samples.plain(places), samples.totals(places)]:
                 for found in (links.counts(pair), signs.alike_pairs(pair), covers.covers(pair), trees.turned(pair),
-                              joins.nearest_never_missing(pair), joins.right_within(pair)):
+                              joins.nearest_never_missing(pair), joins.right_within(pair), mends.mended(pair),
+                              text.parse_pair(text.format_pair(pair)), books.Book(pair, [0] * places).tables):
                     with self.subTest(pair=pair, found=found):
                         self.check_apart(found, pair)
 
@@ -215,6 +231,7 @@ class NewLists(unittest.TestCase):
             self.check_apart(trees.pair_of(trees.tree_of(pair)), pair)
             self.check_apart(order.Links(pair).pair, pair)
             self.check_apart(joins.nearest_never_missing(pair), pair)
+            self.check_apart(mends.mended(pair), pair)
             self.check_apart((joins.right_within(pair), joins.limits(pair[0])), pair)
 
     def test_lists_that_equal_an_argument_are_new(self):
@@ -232,6 +249,11 @@ class NewLists(unittest.TestCase):
             self.assertIsNot(part, pair[1])
 
 
+def turned_book(pair):
+    """A book of one place that is turned to a pair."""
+    return books.Book(([0], [2]), [1]).turn(pair)
+
+
 def pair_calls(pair):
     """All calls to which a pair is passed, with other arguments that are right."""
     return [
@@ -244,7 +266,10 @@ def pair_calls(pair):
         (order.Links, pair), (order.Links.fits, pair), (lists.pair_number, pair), (joins.never_misses, pair),
         (joins.never_twice, pair), (joins.right_within, pair), (joins.clashes, pair), (joins.clashes_apart, pair),
         (joins.nearest_never_missing, pair), (joins.JoinBook, pair, max, 0), (joins.OrderBook, pair, max, [1]),
-        (prices.price, pair, [1], [1]),
+        (prices.price, pair, [1], [1]), (mends.wrong_links, pair), (mends.mended, pair), (mends.mend_table, pair),
+        (mends.is_mend_table, pair, {(1, 1): 0}), (books.Book, pair, [1]), (turned_book, pair),
+        (books.LateBook, pair), (books.Grid, pair, ([0], [2])), (books.Grid, ([0], [2]), pair),
+        (search.reached, pair, [1], 1), (text.format_pair, pair),
     ]
 
 
@@ -301,6 +326,13 @@ class WrongPairs(Raising):
             self.assertEqual(len(joins.nearest_never_missing(pair)[0]), 16)
             self.assertEqual(len(joins.JoinBook(pair, max, 0).cells), 16)
             self.assertGreaterEqual(prices.price(pair, [1] * 16, [1] * 16), 32)
+            self.assertEqual(mends.wrong_links(pair), 15 if pair == two(16) else 0)
+            self.assertEqual(len(mends.mended(pair)[1]), 16)
+            self.assertIs(mends.is_mend_table(pair, mends.mend_table(pair)), True)
+            self.assertEqual(len(books.Book(pair, [1] * 16)), 16)
+            self.assertEqual(books.LateBook(pair).at(16), 0)
+            self.assertEqual(books.Grid(pair, pair).total(16, 16), 0)
+            self.assertEqual(text.parse_pair(text.format_pair(pair)), pair)
 
 
 class WrongTables(Raising):
@@ -479,8 +511,13 @@ def order_book(pair):
     return joins.OrderBook(pair, lambda one, two: one + two, ["a"] * len(pair[0]))
 
 
+def search_for_one(pair):
+    """The search for 1 in a row of ones."""
+    return search.reached(pair, [1] * len(pair[0]), 1)
+
+
 class PairsThatAreNotRight(Raising):
-    CALLED = [trees.tree_of, trees.depths, order.Links, lists.pair_number, order_book]
+    CALLED = [trees.tree_of, trees.depths, order.Links, lists.pair_number, order_book, search_for_one]
 
     def check_not_right(self, pair, first, second):
         for function in self.CALLED:
@@ -516,7 +553,8 @@ class PairsThatAreNotRight(Raising):
 
     def test_other_functions_take_pairs_that_are_not_right(self):
         for call in pair_calls(PAIR):
-            if call[0] not in self.CALLED + [signs.are_alike, signs.parting, moves.moved, joins.OrderBook]:
+            if call[0] not in self.CALLED + [signs.are_alike, signs.parting, moves.moved, joins.OrderBook,
+                                             search.reached, turned_book]:
                 with self.subTest(call[0].__name__):
                     function, *arguments = call
                     function(*[ASKED if argument == [1] else argument for argument in arguments])

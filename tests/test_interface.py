@@ -71,6 +71,19 @@ FUNCTIONS = {
         "price_table": ["asked", "changed"],
         "is_price_table": ["asked", "changed", "table"],
     },
+    "linksums.mends": {
+        "wrong_links": ["pair"],
+        "mended": ["pair"],
+        "mend_table": ["pair"],
+        "is_mend_table": ["pair", "table"],
+    },
+    "linksums.search": {
+        "reached": ["pair", "values", "least"],
+    },
+    "linksums.text": {
+        "format_pair": ["pair"],
+        "parse_pair": ["text"],
+    },
 }
 
 # What must stand in the body of each class itself.
@@ -78,6 +91,7 @@ PROPERTIES = {
     ("linksums.order", "Links"): ["pair", "down", "up", "places"],
     ("linksums.joins", "JoinBook"): ["cells"],
     ("linksums.joins", "OrderBook"): ["cells"],
+    ("linksums.books", "Book"): ["tables", "numbers", "cells", "looks"],
 }
 METHODS = {
     ("linksums.order", "Links"): {
@@ -100,6 +114,27 @@ METHODS = {
         "__init__": ["self", "pair", "join", "row"],
         "put": ["self", "place", "value"],
         "total": ["self", "place"],
+    },
+    ("linksums.books", "Book"): {
+        "__init__": ["self", "pair", "values"],
+        "__call__": ["self", "place", "after=0"],
+        "__getitem__": ["self", "at"],
+        "__setitem__": ["self", "at", "worth"],
+        "__iadd__": ["self", "other"],
+        "__len__": ["self"],
+        "change": ["self", "place", "more"],
+        "turn": ["self", "pair"],
+        "undo": ["self"],
+    },
+    ("linksums.books", "LateBook"): {
+        "__init__": ["self", "pair"],
+        "raise_to": ["self", "place", "more"],
+        "at": ["self", "place"],
+    },
+    ("linksums.books", "Grid"): {
+        "__init__": ["self", "pair", "other"],
+        "change": ["self", "row", "column", "more"],
+        "total": ["self", "row", "column"],
     },
 }
 CLASS_METHODS = {
@@ -176,6 +211,34 @@ PRICES_EXAMPLES = """
 >>> is_price_table([1, 1], [0, 0], {(1, 1): 1, (1, 2): 2, (2, 2): 1}), is_price_table([1, 1], [0, 0], {(1, 1): 1, (1, 2): 3, (2, 2): 1})
 (True, False)
 """
+MENDS_EXAMPLES = """
+>>> from linksums.mends import wrong_links
+>>> wrong_links(([0, 1, 0], [2, 3, 4])), wrong_links(([0, 0, 2], [2, 4, 4]))
+(1, 0)
+"""
+BOOKS_EXAMPLES = """
+>>> from linksums.books import Book
+>>> book = Book(([0, 1, 0], [2, 3, 4]), [1, 2, 3])
+>>> book.cells, book(2), book(3), book.looks, book.turn(([0, 1, 2], [4, 4, 4])), book.cells
+([1, 3, 6], 4, 6, 3, [2, 3], [1, 2, 3])
+>>> book.change(1, 4), book.numbers, book(3), book[1], book.undo(), book.numbers, book.looks
+(None, [5, 2, 3], 10, 5, None, [1, 2, 3], 7)
+"""
+SEARCH_EXAMPLES = """
+>>> from linksums.search import reached
+>>> reached(([0, 0, 2, 0, 4], [2, 4, 4, 6, 6]), [3, 1, 4, 1, 5], 8)
+(3, 3)
+"""
+TEXT_EXAMPLES = """
+>>> from linksums.text import format_pair, parse_pair
+>>> format_pair(([0, 1], [3, 3])), parse_pair('0 0\\n2 3')
+('0 1\\n3 3', ([0, 0], [2, 3]))
+"""
+
+
+def readme():
+    with open(os.path.join(ROOT, "README.md"), encoding="utf-8") as file:
+        return file.read()
 
 
 def found_class(key):
@@ -255,9 +318,25 @@ class Examples(unittest.TestCase):
     def test_prices(self):
         self.check_examples(PRICES_EXAMPLES, "linksums.prices", 3)
 
+    def test_mends(self):
+        self.check_examples(MENDS_EXAMPLES, "linksums.mends", 2)
+
+    def test_books(self):
+        self.check_examples(BOOKS_EXAMPLES, "linksums.books", 4)
+
+    def test_search(self):
+        self.check_examples(SEARCH_EXAMPLES, "linksums.search", 2)
+
+    def test_text(self):
+        self.check_examples(TEXT_EXAMPLES, "linksums.text", 2)
+
     def test_readme(self):
-        with open(os.path.join(ROOT, "README.md"), encoding="utf-8") as file:
-            self.check_examples(file.read(), "README.md", None)
+        self.check_examples(readme(), "README.md", None)
+
+    def test_readme_names_all_modules_of_the_interface(self):
+        for file in {*FUNCTIONS, *[file for file, _ in METHODS], "linksums.errors"}:
+            with self.subTest(file):
+                self.assertTrue(f"`{file}`" in readme())
 
     def check_examples(self, text, name, many):
         # A closing fence is no part of what an example prints.

@@ -265,9 +265,10 @@ class PairsByTheirLooks(unittest.TestCase):
     def test_numbers_that_do_not_come(self):
         for places in range(1, 10):
             most = places * (places + 1) // 2
-            for down_all, up_all in [(0, 0), (places - 1, most), (most, places - 1), (most + 1, places), (most, most + 1),
-                                     (-1, -1), (-places, most), (places, -most), (samples.TWENTY, places),
-                                     (places, samples.TWENTY), (-samples.TWENTY, samples.NINETEEN)]:
+            for down_all, up_all in [(0, 0), (places - 1, most), (most, places - 1), (most + 1, places),
+                                     (most, most + 1), (-1, -1), (-places, most), (places, -most),
+                                     (samples.TWENTY, places), (places, samples.TWENTY),
+                                     (-samples.TWENTY, samples.NINETEEN)]:
                 with self.subTest(places=places, down_all=down_all, up_all=up_all):
                     self.assertEqual(count_by_looks(places, down_all, up_all), 0)
         self.assertEqual(count_by_looks(2, 2, 2), 0)
